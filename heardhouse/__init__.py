@@ -1,0 +1,1 @@
+"""Heardhouse: a house of heard cases."""
