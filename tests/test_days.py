@@ -4,6 +4,7 @@ from heardhouse.days import (
     end, is_calendar, is_day, is_open, is_term, last_open, next_open, within,
 )
 from heardhouse.errors import NoCalendar, NoDay, NoTerm
+from tests import plain
 from tests.house import ANYTHING
 
 GREAT = 999999999999
@@ -18,27 +19,6 @@ NO_TERMS = (
     (1, ["days"]), ("1", "days"), (1.0, "days"), [1, "days"], ("days", 1), (1,), (), (1, "days", 1),
     (None, "days"), None, 3, "days", (1, b"days"),
 )
-
-
-def is_open_plainly(calendar, day):
-    return day not in calendar and day % 7 < 5
-
-
-def next_plainly(calendar, day):
-    while not is_open_plainly(calendar, day):
-        day += 1
-    return day
-
-
-def end_plainly(calendar, day, term):
-    count, unit = term
-    if unit == "days":
-        return next_plainly(calendar, day + count)
-    if count == 0:
-        return next_plainly(calendar, day)
-    for _ in range(count):
-        day = next_plainly(calendar, day + 1)
-    return day
 
 
 class Forms(unittest.TestCase):
@@ -148,21 +128,21 @@ class Ends(unittest.TestCase):
             self.assertEqual(end((3, 4), 3, (0, unit)), 7)
 
     def test_great_terms(self):
-        self.assertEqual(end((), 30000, (400, "open")), end_plainly((), 30000, (400, "open")))
+        self.assertEqual(end((), 30000, (400, "open")), plain.end((), 30000, (400, "open")))
         self.assertEqual(end((), 0, (5 * 10 ** 9, "open")), 7 * 10 ** 9)
 
     def test_all_as_reckoned_day_by_day(self):
         calendars = ((), (0,), (3, 4, 7), (5, 6), (2, 9, 10, 11, 14, 15), tuple(range(8, 30)), (700,))
         for calendar in calendars:
             for day in range(24):
-                self.assertEqual(is_open(calendar, day), is_open_plainly(calendar, day))
-                self.assertEqual(next_open(calendar, day), next_plainly(calendar, day))
-                before = [one for one in range(day + 1) if is_open_plainly(calendar, one)]
+                self.assertEqual(is_open(calendar, day), plain.is_open(calendar, day))
+                self.assertEqual(next_open(calendar, day), plain.next_open(calendar, day))
+                before = [one for one in range(day + 1) if plain.is_open(calendar, one)]
                 self.assertEqual(last_open(calendar, day), before[-1] if before else None)
                 for count in range(12):
                     for unit in ("days", "open"):
                         term = (count, unit)
-                        last = end_plainly(calendar, day, term)
+                        last = plain.end(calendar, day, term)
                         self.assertEqual(end(calendar, day, term), last)
                         self.assertIs(within(calendar, day, term, last), True)
                         self.assertIs(within(calendar, day, term, last + 1), False)
