@@ -73,8 +73,13 @@ def check_days(calendar, days):
     if not is_calendar(calendar):
         raise NoCalendar()
     for day in days:
-        if not is_day(day):
-            raise NoDay()
+        check_day(day)
+
+
+def check_day(day):
+    """Refuse what is no day."""
+    if not is_day(day):
+        raise NoDay()
 
 
 def check_term(term):

@@ -200,6 +200,11 @@ def takings(case, ordered):
     return ahead
 
 
+def takings_up_to(case, papers, day):
+    """Tell each paper filed up to a day and its word, in the docket's order."""
+    return takings(case, [row for row in in_order(case, papers) if filed_day(case, row) <= day])
+
+
 def taking(case, ahead, paper):
     """Tell the word of one paper by the papers ahead of it and their words."""
     there = taken_ones(ahead)

@@ -1,7 +1,9 @@
-"""The docket and its takings once more, as plainly as the document's words go.
+"""What the program tells once more, as plainly as the document's words go.
 
 It asks each question anew, from the papers alone, and is used by small tests only.
 """
+
+import itertools
 
 SUBJECTS = {
     "answer": ("claim",), "motion": ("claim",), "reply": ("motion",), "evidence": ("claim", "motion"),
@@ -112,3 +114,135 @@ def taken(case, papers):
     for paper in docket(case, papers):
         ahead.append((paper, taking(case, ahead, paper)))
     return [(paper[0], word) for paper, word in ahead]
+
+
+def rows(case, papers, day):
+    """The papers filed up to a day, and their words."""
+    ahead = []
+    for paper in docket(case, papers):
+        if next_open(case[0], paper[1]) <= day:
+            ahead.append((paper, taking(case, ahead, paper)))
+    return ahead
+
+
+def taken_up_to(case, papers, day):
+    return {paper[0]: paper for paper, word in rows(case, papers, day) if word == "taken"}
+
+
+def standing(case, papers, day):
+    there = taken_up_to(case, papers, day)
+    return [number for number in sorted(there) if stands(there, number)]
+
+
+def leans(case, papers, day):
+    found = []
+    for paper in taken_up_to(case, papers, day).values():
+        if paper[3] == "ruling":
+            for other in [paper[4]] + [rest for rest, _ in paper[6]]:
+                if (paper[0], other) not in found:
+                    found.append((paper[0], other))
+    return sorted(found)
+
+
+def falls(case, papers, number, day):
+    there = taken_up_to(case, papers, day)
+    struck_too = dict(there)
+    if number in there:
+        struck_too[-1] = (-1, day, "jon", "strike", number, (), ())
+    found = []
+    for one in sorted(there):
+        if there[one][3] == "ruling" and stands(there, one) and not stands(struck_too, one):
+            found.append(one)
+    return found
+
+
+def settled(case, papers, day):
+    there = taken_up_to(case, papers, day)
+    found = []
+    for number in sorted(there):
+        if there[number][3] in ("claim", "motion") and stands(there, number):
+            last = None
+            for one in there:
+                if there[one][3] == "ruling" and there[one][4] == number and stands(there, one):
+                    last = one
+            found.append((number, last))
+    return found
+
+
+def reopened(case, papers, day):
+    there = taken_up_to(case, papers, day)
+    ruled = [paper[4] for paper in there.values() if paper[3] == "ruling"]
+    return [number for number, last in settled(case, papers, day) if last is None and number in ruled]
+
+
+def sees(case, papers, person, number, place, day):
+    paper, word = {row[0][0]: row for row in rows(case, papers, day)}[number]
+    if word != "taken":
+        return person in case[2] or person == paper[2]
+    return sees_taken(case, taken_up_to(case, papers, day), person, number, place)
+
+
+def sees_taken(case, there, person, number, place):
+    paper = there[number]
+    seal = paper[5][place][1]
+    if paper[3] == "decision" and place == 0:
+        seal = "open"
+    for other in there.values():
+        if other[3] == "unseal" and (number, place) in other[6] and stands(there, other[0]):
+            seal = "open"
+    parties = [name for name, _ in case[1]]
+    may = {"open": True, "parties": person in parties, "bench": False}
+    own = person in case[2] or may.get(seal, person in parties and person in list(seal))
+    if not own or paper[3] != "ruling":
+        return own
+    return all(sees_taken(case, there, person, rest, where) for rest, where in paper[6])
+
+
+def view(case, papers, person, day):
+    told = []
+    for paper, word in rows(case, papers, day):
+        number, own_day, by, kind, about, words, _ = paper
+        texts = []
+        for place, (text, _) in enumerate(words):
+            texts.append(text if sees(case, papers, person, number, place, day) else None)
+        told.append((number, next_open(case[0], own_day), by, kind, about, word, texts))
+    return told
+
+
+def is_laying(plan, matters, laying):
+    """Whether tuples of the right form lay the first so many matters."""
+    calendar, rooms, slots = plan
+    used = []
+    for (name, people, length, first, last), (told, day, slot, room) in zip(matters, laying):
+        if told != name or not first <= day <= last or not is_open(calendar, day):
+            return False
+        if not 0 <= slot <= slots - length or not 0 <= room < rooms:
+            return False
+        for hour in range(slot, slot + length):
+            used.append((day, hour, room))
+            used += [(day, hour, person) for person in people]
+    return len(used) == len(set(used))
+
+
+def lay_more(plan, matters, laying):
+    """The first laying behind a good one, by trying all that is, from the first on."""
+    if len(laying) == len(matters):
+        return list(laying)
+    name, _, _, first, last = matters[len(laying)]
+    for day in range(first, last + 1):
+        for slot in range(plan[2]):
+            for room in range(plan[1]):
+                longer = laying + [(name, day, slot, room)]
+                if is_laying(plan, matters, longer):
+                    told = lay_more(plan, matters, longer)
+                    if told is not None:
+                        return told
+    return None
+
+
+def clash(plan, matters):
+    for many in range(len(matters) + 1):
+        for chosen in itertools.combinations(matters, many):
+            if lay_more(plan, list(chosen), []) is None:
+                return [matter[0] for matter in chosen]
+    return None

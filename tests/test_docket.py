@@ -2,16 +2,10 @@ import itertools
 import unittest
 
 from heardhouse.days import end
-from heardhouse.errors import HouseError, NoCase, NoPaper
+from heardhouse.errors import NoCase, NoPaper
 from heardhouse.papers import docket, filed, taken, taking
+from tests.asking import NO_CASES, NO_PAPERS, Asking
 from tests.house import ANYTHING, CASE, LONG, answer, claim, decision, motion, paper, ruling, strike
-
-NO_PAPERS = (
-    None, (), (claim(1),), claim(1), {1: claim(1)}, "", [None], [claim(1), None], [list(claim(1))],
-    [claim(0)], [claim(True)], [claim(1, day=-1)], [claim(1, rests=((1, 0),))], [motion(1, None)],
-    [motion(1, 1)], [claim(1), claim(1, by="Ann")], [[claim(1)]], [claim(1)[:6]],
-)
-NO_CASES = ANYTHING + ((), CASE[:3], list(CASE), CASE[1:] + CASE[:1])
 
 
 class Filed(unittest.TestCase):
@@ -93,12 +87,7 @@ class Taken(unittest.TestCase):
         self.assertEqual([(row[0], word) for row, word in ahead], taken(CASE, papers))
 
 
-class Refusals(unittest.TestCase):
-    def refused(self, error, ask, *given):
-        with self.assertRaises(HouseError) as caught:
-            ask(*given)
-        self.assertIs(type(caught.exception), error)
-
+class Refusals(Asking):
     def test_no_case(self):
         for thing in NO_CASES:
             self.refused(NoCase, filed, thing, claim(1))

@@ -11,11 +11,19 @@ BUILTINS = (
     "len range enumerate zip min max sum abs sorted reversed int str bool list tuple dict set isinstance ord "
     "repr any all divmod ValueError KeyError IndexError TypeError super"
 ).split()
+# What may be imported from beside the package.
+LIBRARY = {
+    "heapq": "heappush heappop heapify heapreplace heappushpop", "math": "gcd lcm isqrt comb perm factorial",
+    "itertools": "product combinations permutations",
+}
 INTERFACE = {
     "errors": "HouseError NoCalendar NoDay NoTerm NoCase NoPaper NoPerson NoWord NoNumber NoPlan NoMatter "
               "NoLaying NoAward NoPayment Twice NoText",
     "days": "is_calendar is_day is_term is_open within next_open end last_open",
     "papers": "is_case is_paper filed docket taken taking",
+    "stands": "standing leans falls settled reopened",
+    "seals": "sees view",
+    "hearings": "lay lay_more clash is_laying",
 }
 
 
@@ -56,7 +64,10 @@ class Language(unittest.TestCase):
                 self.assertNotIsInstance(node, ast.Import)
                 if isinstance(node, ast.ImportFrom):
                     self.assertEqual(node.level, 0)
-                    self.assertTrue(node.module.startswith("heardhouse."))
+                    if not node.module.startswith("heardhouse."):
+                        for name in node.names:
+                            self.assertIn(name.name, LIBRARY.get(node.module, "").split())
+                            self.assertIsNone(name.asname)
 
     def test_only_named_builtins(self):
         for path in files():

@@ -1,10 +1,10 @@
 """What stands at a place of the docket, as far as a taking hangs on it."""
 
-import random
 import unittest
 
 from heardhouse.papers import taken, taking
 from tests import plain
+from tests.chance import Chance
 from tests.house import CASE, LONG, appeal, claim, decision, evidence, motion, reply, ruling, strike, unseal
 
 BASE = [claim(1), evidence(2, 1), ruling(3, 1, ((2, 0),)), appeal(4, 3)]
@@ -159,60 +159,6 @@ class Rulings(Asking):
         self.assertEqual(taking(LONG, ahead[:4] + [(decision(5, 4), "own")], probe), "taken")
         self.assertEqual(taking(LONG, ahead + [(strike(7, 5), "taken")], probe), "taken")
         self.assertEqual(taking(LONG, ahead + [(strike(7, 5), "maker")], probe), "rests")
-
-
-class Chance:
-    """Papers that are good in form and mostly fit one another, from a number on."""
-
-    ABOUT = dict(plain.SUBJECTS, strike=None, unseal=None)
-    KINDS = ("claim",) + tuple(ABOUT) + ("ruling", "strike", "appeal", "decision")
-
-    def __init__(self, seed):
-        self.chance = random.Random(seed)
-
-    def pick(self, rows):
-        return self.chance.choice(rows)
-
-    def maker(self, kind):
-        if self.chance.random() < 0.05:
-            return self.pick(("ann", "ben", "jon", "zed"))
-        if kind in ("ruling", "strike", "unseal", "decision"):
-            return self.pick(("jon", "kay", "lou"))
-        return self.pick({"claim": ("ann", "cid"), "answer": ("ben", "dot")}.get(kind, ("ann", "ben", "cid", "dot")))
-
-    def words(self, kind):
-        if kind == "decision":
-            text = self.pick(("upheld", "undone", "back", "undone", "back", "no"))
-            return ((text, "open"),)[:self.pick((1, 1, 1, 1, 0))]
-        return (("said", "open"),) * self.pick((0, 1, 1, 2, 2, 2))
-
-    def rests(self, kind, about, rows):
-        if kind not in ("ruling", "unseal"):
-            return ()
-        found = set()
-        for _ in range(self.pick((0, 1, 1, 2, 2, 3))):
-            number = about if kind == "unseal" and self.chance.random() < 0.9 else self.pick(rows)[0]
-            found.add((number, self.pick((0, 0, 0, 1))))
-        return tuple(sorted(found))
-
-    def paper(self, number, day, rows):
-        kind = self.pick(self.KINDS) if rows else "claim"
-        about = None
-        if kind != "claim":
-            fitting = [row for row in rows if row[3] in (self.ABOUT[kind] or (row[3],))]
-            if not fitting or self.chance.random() < 0.03:
-                fitting = rows
-            about = self.pick(fitting[-4:] if self.chance.random() < 0.5 else fitting)[0]
-        by, words = self.maker(kind), self.words(kind)
-        return (number, day, by, kind, about, words, self.rests(kind, about, rows))
-
-    def papers(self, many):
-        rows, day = [], 0
-        for number in range(1, many + 1):
-            day += self.pick((0, 0, 0, 1, 1, 3))
-            rows.append(self.paper(number, day, rows))
-        self.chance.shuffle(rows)
-        return rows
 
 
 class AsPlainly(unittest.TestCase):
