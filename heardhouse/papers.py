@@ -146,6 +146,12 @@ def check_case(case):
         raise NoCase()
 
 
+def check_paper(paper):
+    """Refuse what is no paper."""
+    if not is_paper(paper):
+        raise NoPaper()
+
+
 def check_papers(papers):
     """Refuse what is no list of papers."""
     if not isinstance(papers, list) or not all([is_paper(paper) for paper in papers]):
@@ -155,8 +161,7 @@ def check_papers(papers):
 def filed(case, paper):
     """Tell a paper's filed day."""
     check_case(case)
-    if not is_paper(paper):
-        raise NoPaper()
+    check_paper(paper)
     return filed_day(case, paper)
 
 

@@ -12,26 +12,34 @@ from heardhouse.papers import (
 def sees(case, papers, person, number, place, day):
     """Tell whether a person may see a word of a paper at a day."""
     rows = rows_asked(case, papers, person, day)
-    if not is_word_of(rows, number, place):
-        raise NoWord()
+    check_word([paper for paper, _ in rows], number, place)
     return (number, place) in seen_words(case, rows, person)
 
 
 def view(case, papers, person, day):
     """Tell the docket up to a day as a person sees it."""
-    rows = rows_asked(case, papers, person, day)
-    seen = seen_words(case, rows, person)
-    return [shown(case, paper, word, seen) for paper, word in rows]
+    return shown_rows(case, rows_asked(case, papers, person, day), person)
 
 
 def rows_asked(case, papers, person, day):
     """Tell the papers up to a day and their words, where all is well asked."""
     check_case(case)
     check_papers(papers)
-    if not is_person(case, person):
-        raise NoPerson()
+    check_person(case, person)
     check_day(day)
     return takings_up_to(case, papers, day)
+
+
+def check_person(case, person):
+    """Refuse who is no person of the case."""
+    if not is_person(case, person):
+        raise NoPerson()
+
+
+def check_word(papers, number, place):
+    """Refuse what is no number and place of a word in the papers."""
+    if not is_word_of(papers, number, place):
+        raise NoWord()
 
 
 def is_person(case, thing):
@@ -46,11 +54,17 @@ def is_party_of(case, name):
     return name in [party for party, _ in case[1]]
 
 
-def is_word_of(rows, number, place):
+def is_word_of(papers, number, place):
     """Tell whether two things are a number and a place of a word in the papers."""
     if not is_whole(number, 1) or not is_whole(place, 0):
         return False
-    return any([paper[NUMBER] == number and place < len(paper[WORDS]) for paper, _ in rows])
+    return any([paper[NUMBER] == number and place < len(paper[WORDS]) for paper in papers])
+
+
+def shown_rows(case, rows, person):
+    """Tell a view's rows, of papers in order and their words."""
+    seen = seen_words(case, rows, person)
+    return [shown(case, paper, word, seen) for paper, word in rows]
 
 
 def shown(case, paper, word, seen):

@@ -13,7 +13,7 @@ SETTLED = ("claim", "motion")
 
 def standing(case, papers, day):
     """Tell the numbers of the papers that stand at a day, rising."""
-    return sorted(standing_ones(taken_ones(rows_asked(case, papers, day))))
+    return standing_numbers(taken_ones(rows_asked(case, papers, day)))
 
 
 def leans(case, papers, day):
@@ -41,9 +41,7 @@ def settled(case, papers, day):
 
 def reopened(case, papers, day):
     """Tell the numbers of the claims and motions on which rulings were made, none of which stands."""
-    there = taken_ones(rows_asked(case, papers, day))
-    ruled_on = {row[ABOUT]: True for row in there.values() if row[KIND] == "ruling"}
-    return [number for number, ruling in last_rulings(there) if ruling is None and number in ruled_on]
+    return reopened_numbers(taken_ones(rows_asked(case, papers, day)))
 
 
 def rows_asked(case, papers, day):
@@ -64,6 +62,17 @@ def with_strike(there, number):
     beyond = max(there, default=0) + 1
     # What stands hangs neither on the day nor on the maker of a strike.
     return {**there, beyond: (beyond, 0, "", "strike", number, (), ())}
+
+
+def standing_numbers(there):
+    """Tell the numbers that stand, rising, of taken papers in order."""
+    return sorted(standing_ones(there))
+
+
+def reopened_numbers(there):
+    """Tell the numbers of what was ruled on in vain, rising, of taken papers in order."""
+    ruled_on = {row[ABOUT]: True for row in there.values() if row[KIND] == "ruling"}
+    return [number for number, ruling in last_rulings(there) if ruling is None and number in ruled_on]
 
 
 def last_rulings(there):

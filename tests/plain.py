@@ -3,7 +3,9 @@
 It asks each question anew, from the papers alone, and is used by small tests only.
 """
 
+import fractions
 import itertools
+import math
 
 SUBJECTS = {
     "answer": ("claim",), "motion": ("claim",), "reply": ("motion",), "evidence": ("claim", "motion"),
@@ -246,3 +248,69 @@ def clash(plan, matters):
             if lay_more(plan, list(chosen), []) is None:
                 return [matter[0] for matter in chosen]
     return None
+
+
+def parted(coins, shares):
+    whole = sum(weight for _, weight in shares)
+    exact = {name: fractions.Fraction(coins * weight, whole) for name, weight in shares}
+    parts = {name: math.floor(part) for name, part in exact.items()}
+    given = []
+    while sum(parts.values()) < coins:
+        left = [name for name, _ in shares if name not in given]
+        best = max(exact[name] - math.floor(exact[name]) for name in left)
+        lucky = [name for name in left if exact[name] - math.floor(exact[name]) == best][0]
+        parts[lucky] += 1
+        given.append(lucky)
+    return [(name, parts[name]) for name, _ in shares]
+
+
+def owed(case, papers, awards, day, one, other, only_late=False):
+    """What one owes other by the awards that count at the day."""
+    total = 0
+    for ruling, payee, coins, shares in awards:
+        if payee != other or ruling not in standing(case, papers, day):
+            continue
+        paper = [row for row in docket(case, papers) if row[0] == ruling][0]
+        last = end(case[0], next_open(case[0], paper[1]), case[3][3])
+        if paper[3] == "ruling" and (not only_late or last < day):
+            total += sum(part for name, part in parted(coins, shares) if name == one)
+    return total
+
+
+def paid(payments, day, one, other):
+    return sum(row[3] for row in payments if row[:3] == (row[0], one, other) and row[0] <= day)
+
+
+def dues(case, papers, awards, payments, day):
+    told = []
+    for one, other in itertools.permutations([name for name, _ in case[1]], 2):
+        coins = owed(case, papers, awards, day, one, other) - owed(case, papers, awards, day, other, one)
+        coins -= paid(payments, day, one, other) - paid(payments, day, other, one)
+        if coins > 0:
+            told.append((one, other, coins))
+    return sorted(told)
+
+
+def late(case, papers, awards, payments, day):
+    told = []
+    for one, other in itertools.permutations([name for name, _ in case[1]], 2):
+        coins = owed(case, papers, awards, day, one, other, True) - paid(payments, day, one, other)
+        if coins > 0:
+            told.append((one, other, coins))
+    return sorted(told)
+
+
+def balance(case, papers, awards, payments, day):
+    told = []
+    for name, _ in case[1]:
+        coins = 0
+        for other, _ in case[1]:
+            coins += owed(case, papers, awards, day, other, name) - owed(case, papers, awards, day, name, other)
+            coins += paid(payments, day, name, other) - paid(payments, day, other, name)
+        told.append((name, coins))
+    return told
+
+
+def news(case, papers, person, since, day):
+    before = view(case, papers, person, since)
+    return [row for row in view(case, papers, person, day) if row not in before]

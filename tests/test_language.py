@@ -24,6 +24,12 @@ INTERFACE = {
     "stands": "standing leans falls settled reopened",
     "seals": "sees view",
     "hearings": "lay lay_more clash is_laying",
+    "costs": "is_award is_payment parted dues late balance",
+    "court": "Court",
+    "texts": "show_paper show_case read_paper read_case show_docket read_docket",
+}
+METHODS = {
+    "Court": "file looked docket taken standing settled reopened view news dues late balance sees award pay",
 }
 
 
@@ -87,6 +93,49 @@ class Language(unittest.TestCase):
             defined = [node.name for node in tree.body if isinstance(node, (ast.FunctionDef, ast.ClassDef))]
             for word in words.split():
                 self.assertIn(word, defined)
+
+    def test_listed_methods_are_defined_in_their_class(self):
+        trees = [ast.parse(read(path)) for path in files()]
+        classes = [node for tree in trees for node in tree.body if isinstance(node, ast.ClassDef)]
+        bodies = {node.name: [row.name for row in node.body if isinstance(row, ast.FunctionDef)] for node in classes}
+        for name, words in METHODS.items():
+            self.assertEqual(len(bodies[name]), len(set(bodies[name])))
+            for word in words.split():
+                self.assertIn(word, bodies[name])
+
+    def test_no_name_is_a_method_and_an_attribute(self):
+        for path in files():
+            for node in ast.parse(read(path)).body:
+                if isinstance(node, ast.ClassDef):
+                    methods = {row.name for row in node.body if isinstance(row, ast.FunctionDef)}
+                    kept = {row.attr for row in ast.walk(node) if isinstance(row, ast.Attribute)
+                            and isinstance(row.ctx, ast.Store)}
+                    self.assertEqual(methods & kept, set(), node.name)
+
+    def test_no_local_name_hides_an_import_or_a_class(self):
+        for path in files():
+            tree = ast.parse(read(path))
+            barred = {node.name for node in tree.body if isinstance(node, ast.ClassDef)}
+            for node in tree.body:
+                if isinstance(node, ast.ImportFrom):
+                    barred |= {name.name for name in node.names}
+            for node in ast.walk(tree):
+                if isinstance(node, ast.arg):
+                    self.assertNotIn(node.arg, barred, path)
+                if isinstance(node, ast.Name) and isinstance(node.ctx, ast.Store):
+                    self.assertNotIn(node.id, barred, path)
+
+    def test_no_two_files_import_from_each_other(self):
+        reached = {}
+        for path in files():
+            rows = [node.module for node in ast.parse(read(path)).body if isinstance(node, ast.ImportFrom)]
+            name = os.path.basename(path)[:-3]
+            reached[name] = {row.split(".")[1] for row in rows if row.startswith("heardhouse.")}
+        for _ in reached:
+            for name in reached:
+                reached[name] = reached[name].union(*[reached[other] for other in reached[name]])
+        for name, others in reached.items():
+            self.assertNotIn(name, others)
 
 
 if __name__ == "__main__":

@@ -25,6 +25,25 @@ class Readme(unittest.TestCase):
         self.assertEqual(names["lay"](plan, matters), [("appeal", 7, 0, 0), ("motion", 3, 0, 0)])
         self.assertIsNone(names["lay_more"](plan, matters, [("appeal", 3, 0, 0)]))
         self.assertEqual(names["clash"]((names["calendar"], 1, 2), matters), ["appeal"])
+        self.costs_and_texts(names, case, papers)
+
+    def costs_and_texts(self, names, case, papers):
+        self.assertEqual(names["parted"](10, (("ann", 1), ("ben", 2))), [("ann", 3), ("ben", 7)])
+        awards, payments = [(3, "ann", 10, (("ben", 1),))], [(8, "ben", "ann", 4)]
+        self.assertEqual(names["dues"](case, papers, awards, payments, 8), [("ben", "ann", 6)])
+        court = names["court"]
+        self.assertEqual(court.looked(), 3)
+        self.assertEqual(court.late(9), [])
+        self.assertEqual(court.late(10), [("ben", "ann", 6)])
+        self.assertEqual([row[0] for row in court.news("public", 0, 7)], [2, 3])
+        other = names["Court"](case)
+        self.assertEqual([other.file(paper) for paper in papers], [0, 0, 2])
+        self.assertEqual(names["show_case"](case), "4;ann=asker,ben=answerer;jon;10 days,3 open,5 days,2 open")
+        texts = names["show_docket"](case, papers)
+        self.assertEqual(texts[2], '#3 4 jon ruling >1 open"it is" [1.0,2.0]')
+        self.assertEqual(names["read_docket"](texts), names["docket"](case, papers))
+        told = names["read_paper"]('#1 0 ann claim open"it is ""mine"""')
+        self.assertEqual(told[5], (('it is "mine"', "open"),))
 
 
 if __name__ == "__main__":
